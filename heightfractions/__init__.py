@@ -1,0 +1,1 @@
+"""Ways that never fall below nought, weighed by height."""
