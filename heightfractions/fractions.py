@@ -2,6 +2,8 @@
 
 from heightfractions.errors import NoFraction, NoText
 
+NOUGHT = (0, 1)
+ONE = (1, 1)
 FIGURES = "0123456789"
 MOST_FIGURES = 30
 

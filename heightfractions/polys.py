@@ -1,8 +1,6 @@
 """Polynomials: tuples of fractions, one for each power, the last not nought."""
 
-from heightfractions.fractions import plus, times
-
-NOUGHT = (0, 1)
+from heightfractions.fractions import NOUGHT, plus, times
 
 
 def poly_of(numbers):
